@@ -1,0 +1,1 @@
+"""Downwords: languages that are closed under deleting letters."""

@@ -1,0 +1,123 @@
+"""The interface, and those rules of LANGUAGE.md that a short look at the files can check."""
+
+import ast
+import builtins
+import inspect
+import pathlib
+import re
+import unittest
+
+from downwords import products, words
+
+PACKAGE = pathlib.Path(__file__).resolve().parent.parent / "downwords"
+
+ARGUMENTS = {
+    words: {
+        "is_alphabet": ["thing"],
+        "is_word": ["alphabet", "thing"],
+        "is_subword": ["word", "other"],
+        "first_positions": ["word", "other"],
+        "minimal_words": ["words"],
+        "common_superwords": ["word", "other"],
+    },
+    products: {
+        "is_product": ["alphabet", "thing"],
+        "format_product": ["product"],
+        "parse_product": ["text"],
+        "accepts": ["product", "word"],
+        "reduce_product": ["product"],
+        "unfold": ["product", "count"],
+        "is_included": ["product", "other"],
+        "common_part": ["product", "other"],
+    },
+}
+
+ALLOWED_BUILTINS = """
+len range enumerate zip min max sum abs sorted reversed int str bool list tuple dict set isinstance ord
+repr any all divmod iter next super property staticmethod classmethod NotImplemented
+Exception ValueError TypeError KeyError IndexError LookupError ZeroDivisionError
+""".split()
+
+BARRED_WORDS = """
+type typing typing_extensions enum Enum IntEnum StrEnum Flag IntFlag Generic Protocol ABC ABCMeta
+namedtuple NamedTuple TypedDict TYPE_CHECKING abstractmethod
+""".split()
+
+
+def files():
+    return sorted(path for path in PACKAGE.iterdir() if path.name != "__pycache__")
+
+
+def trees():
+    return [(path, ast.parse(path.read_text())) for path in files()]
+
+
+class TestInterface(unittest.TestCase):
+
+    def test_arguments_and_files(self):
+        for module, functions in ARGUMENTS.items():
+            for name, expected in functions.items():
+                function = getattr(module, name)
+                self.assertEqual(list(inspect.signature(function).parameters), expected, name)
+                self.assertEqual(function.__module__, module.__name__)
+
+
+class TestRules(unittest.TestCase):
+
+    def test_files(self):
+        for path in files():
+            self.assertRegex(path.name, r"^[a-z0-9_]+\.py$")
+        self.assertIn("__init__.py", [path.name for path in files()])
+
+    def test_sizes_and_characters(self):
+        for path in files():
+            text = path.read_text()
+            lines = text.split("\n")
+            self.assertLessEqual(len(lines), 399, path)
+            for number, line in enumerate(lines, start=1):
+                self.assertLessEqual(len(line), 120, (path, number))
+                self.assertTrue(all(" " <= sign <= "~" for sign in line), (path, number))
+
+    def test_functions_are_short(self):
+        for path, tree in trees():
+            for node in ast.walk(tree):
+                if isinstance(node, ast.FunctionDef):
+                    self.assertLessEqual(node.end_lineno - node.lineno + 1, 40, (path, node.name))
+
+    def test_imports_stay_inside_the_package(self):
+        for path, tree in trees():
+            for node in ast.walk(tree):
+                self.assertNotIsInstance(node, ast.Import, path)
+                if isinstance(node, ast.ImportFrom):
+                    self.assertTrue(node.module.startswith("downwords."), path)
+                    self.assertEqual(node.level, 0)
+
+    def test_no_other_builtins(self):
+        known = set(dir(builtins)) - set(ALLOWED_BUILTINS)
+        for path, tree in trees():
+            for node in ast.walk(tree):
+                if isinstance(node, ast.Name):
+                    self.assertNotIn(node.id, known, (path, node.lineno))
+
+    def test_plain_names(self):
+        for path, tree in trees():
+            for node in ast.walk(tree):
+                if isinstance(node, (ast.Name, ast.arg)):
+                    name = node.id if isinstance(node, ast.Name) else node.arg
+                    self.assertFalse(name.startswith("_"), (path, name))
+                    self.assertNotIn(name, dir(builtins) if isinstance(node, ast.arg) else [])
+
+    def test_barred_words_and_signs(self):
+        for path, tree in trees():
+            text = path.read_text()
+            for word in BARRED_WORDS:
+                self.assertIsNone(re.search(rf"\b{word}\b", text), (path, word))
+            for node in ast.walk(tree):
+                if isinstance(node, ast.Constant):
+                    self.assertNotIsInstance(node.value, float)
+                    if isinstance(node.value, str):
+                        self.assertNotIn("%", node.value, path)
+
+
+if __name__ == "__main__":
+    unittest.main()
