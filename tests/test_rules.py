@@ -7,7 +7,7 @@ import pathlib
 import re
 import unittest
 
-from downwords import products, words
+from downwords import counting, excluded, languages, operations, products, words
 
 PACKAGE = pathlib.Path(__file__).resolve().parent.parent / "downwords"
 
@@ -29,6 +29,41 @@ ARGUMENTS = {
         "unfold": ["product", "count"],
         "is_included": ["product", "other"],
         "common_part": ["product", "other"],
+    },
+    languages: {
+        "Language": ["alphabet", "products"],
+        "parse_language": ["text"],
+        "closure_of_words": ["alphabet", "words"],
+        "is_subset": ["one", "other"],
+    },
+    operations: {
+        "union": ["one", "other"],
+        "intersection": ["one", "other"],
+        "concatenation": ["one", "other"],
+        "shuffle": ["one", "other"],
+        "residual": ["one", "other"],
+        "reversal": ["language"],
+        "star": ["language"],
+        "derivative": ["language", "word"],
+    },
+    counting: {
+        "automaton": ["language"],
+        "count_words": ["language", "length"],
+        "count_all": ["language"],
+        "word_at": ["language", "number"],
+        "number_of": ["language", "word"],
+        "least_difference": ["one", "other"],
+    },
+    excluded: {
+        "excluded_words": ["language"],
+        "avoiding": ["alphabet", "words"],
+    },
+}
+
+METHODS = {
+    languages.Language: {
+        "alphabet": ["self"], "products": ["self"], "contains": ["self", "word"], "is_empty": ["self"],
+        "is_full": ["self"], "letters": ["self"], "__eq__": ["self", "other"], "__str__": ["self"],
     },
 }
 
@@ -60,6 +95,12 @@ class TestInterface(unittest.TestCase):
                 function = getattr(module, name)
                 self.assertEqual(list(inspect.signature(function).parameters), expected, name)
                 self.assertEqual(function.__module__, module.__name__)
+
+    def test_methods_stand_in_the_class_itself(self):
+        for kind, methods in METHODS.items():
+            for name, expected in methods.items():
+                self.assertIn(name, vars(kind))
+                self.assertEqual(list(inspect.signature(vars(kind)[name]).parameters), expected, name)
 
 
 class TestRules(unittest.TestCase):
@@ -106,6 +147,60 @@ class TestRules(unittest.TestCase):
                     name = node.id if isinstance(node, ast.Name) else node.arg
                     self.assertFalse(name.startswith("_"), (path, name))
                     self.assertNotIn(name, dir(builtins) if isinstance(node, ast.arg) else [])
+
+    def test_no_name_means_two_things(self):
+        for path, tree in trees():
+            taken = set(dir(builtins)) | {node.name for node in tree.body if isinstance(node, ast.ClassDef)}
+            for node in tree.body:
+                if isinstance(node, ast.ImportFrom):
+                    taken |= {alias.name for alias in node.names}
+            for node in ast.walk(tree):
+                if isinstance(node, ast.Name) and isinstance(node.ctx, ast.Store):
+                    self.assertNotIn(node.id, taken, (path, node.lineno))
+                if isinstance(node, ast.arg):
+                    self.assertNotIn(node.arg, taken, (path, node.lineno))
+
+    def test_methods_and_attributes_have_different_names(self):
+        methods, attributes = set(), set()
+        for path, tree in trees():
+            for node in ast.walk(tree):
+                if isinstance(node, ast.ClassDef):
+                    methods |= {part.name for part in node.body if isinstance(part, ast.FunctionDef)}
+                if isinstance(node, ast.Attribute) and isinstance(node.ctx, ast.Store):
+                    attributes.add(node.attr)
+        self.assertEqual(methods & attributes, set())
+
+    def test_imports_name_the_file_that_defines(self):
+        defined = {}
+        for path, tree in trees():
+            names = {node.name for node in tree.body if isinstance(node, (ast.FunctionDef, ast.ClassDef))}
+            names |= {node.targets[0].id for node in tree.body if isinstance(node, ast.Assign)}
+            defined["downwords." + path.stem] = names
+        for path, tree in trees():
+            for node in tree.body:
+                if isinstance(node, ast.ImportFrom):
+                    self.assertLessEqual({alias.name for alias in node.names}, defined[node.module], path)
+
+    def test_every_import_is_used(self):
+        for path, tree in trees():
+            used = {node.id for node in ast.walk(tree) if isinstance(node, ast.Name)}
+            for node in tree.body:
+                if isinstance(node, ast.ImportFrom):
+                    self.assertLessEqual({alias.name for alias in node.names}, used, path)
+
+    def test_no_generators_and_no_sort(self):
+        # A class has ==, so any, all, sum, sorted and the like take lists, and nothing is sorted in place.
+        for path, tree in trees():
+            for node in ast.walk(tree):
+                self.assertNotIsInstance(node, (ast.GeneratorExp, ast.Yield, ast.Lambda), path)
+                if isinstance(node, ast.Attribute):
+                    self.assertNotEqual(node.attr, "sort", (path, node.lineno))
+
+    def test_is_only_with_constants(self):
+        for path, tree in trees():
+            for node in ast.walk(tree):
+                if isinstance(node, ast.Compare) and any(isinstance(op, (ast.Is, ast.IsNot)) for op in node.ops):
+                    self.assertIsInstance(node.comparators[0], ast.Constant, (path, node.lineno))
 
     def test_barred_words_and_signs(self):
         for path, tree in trees():
