@@ -1,6 +1,6 @@
 """Closed languages: unions of products."""
 
-from downwords.errors import AlphabetMismatch, InvalidAlphabet, InvalidProduct, InvalidText, TooLarge
+from downwords.errors import AlphabetMismatch, InvalidAlphabet, InvalidProduct, InvalidText, TooLarge, TooMany
 from downwords.products import (
     format_product, is_inside, is_product, letters_of, maximal_products, parse_product, star_product,
     subwords_product,
@@ -114,6 +114,12 @@ def check_factors(language, limit):
     """Raise TooLarge if the products of a Language together have more factors than the limit."""
     if number_of_factors(language) > limit:
         raise TooLarge(limit)
+
+
+def check_products(language, limit):
+    """Raise TooMany if a Language has more products than the limit."""
+    if len(language.products()) > limit:
+        raise TooMany(limit)
 
 
 def is_subset(one, other):

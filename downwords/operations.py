@@ -14,10 +14,15 @@ LANGUAGE_LIMIT = 24
 SHUFFLE_LIMIT = 8
 
 
+def union_of_all(alphabet, languages):
+    """Return the Language of the words of all Languages of a list, which have the alphabet."""
+    return Language(alphabet, [product for language in languages for product in language.products()])
+
+
 def union(one, other):
     """Return the Language of the words of both Languages."""
     check_alphabets(one, other)
-    return Language(one.alphabet(), one.products() + other.products())
+    return union_of_all(one.alphabet(), [one, other])
 
 
 def check_limits(one, other):

@@ -4,6 +4,7 @@ import itertools
 import random
 
 from downwords.errors import TooLarge
+from downwords.grammars import Grammar
 from downwords.languages import Language
 from downwords.products import format_product, is_included, is_product, reduce_product
 
@@ -29,6 +30,7 @@ NOT_TEXTS = [
     [], ["a"], ["a", "b"], ["ab"], [""], (), ("a",), ("a", "b"), ("ab",),
     {}, {"a": "b"}, {"a": 1, "b": 2}, {0: "a"}, TooLarge(12),
     Language("ab", []), Language("a", [(("opt", "a"),)]), [Language("ab", [()])], (Language("ab", [()]),),
+    Grammar("ab", []), [Grammar("ab", [("S", "a")])], (Grammar("ab", [("S", "a")]),), [("S", "a")], ("S", "a"),
 ] + DEEP
 
 # None of these texts is an alphabet, a word over "abc" or a written form.
@@ -104,6 +106,11 @@ def words_of(products, alphabet, most):
     for product in products:
         found |= language(product, alphabet, most)
     return found
+
+
+def joined(one, other, most):
+    """All words of one set followed by words of the other one, with at most so many letters."""
+    return {start + end for start in one for end in other if len(start + end) <= most}
 
 
 def in_shortlex(words):

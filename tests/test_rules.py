@@ -7,7 +7,9 @@ import pathlib
 import re
 import unittest
 
-from downwords import counting, excluded, languages, operations, products, words
+from downwords import (
+    analysis, closures, counting, excluded, expressions, grammars, languages, operations, products, words,
+)
 
 PACKAGE = pathlib.Path(__file__).resolve().parent.parent / "downwords"
 
@@ -58,12 +60,30 @@ ARGUMENTS = {
         "excluded_words": ["language"],
         "avoiding": ["alphabet", "words"],
     },
+    expressions: {
+        "closure_of_expression": ["alphabet", "text"],
+    },
+    grammars: {
+        "Grammar": ["alphabet", "productions"],
+    },
+    analysis: {
+        "ranks": ["grammar"],
+        "components": ["grammar"],
+        "component_kinds": ["grammar"],
+    },
+    closures: {
+        "closure": ["grammar", "symbol"],
+        "side_letters": ["grammar", "symbol"],
+    },
 }
 
 METHODS = {
     languages.Language: {
         "alphabet": ["self"], "products": ["self"], "contains": ["self", "word"], "is_empty": ["self"],
         "is_full": ["self"], "letters": ["self"], "__eq__": ["self", "other"], "__str__": ["self"],
+    },
+    grammars.Grammar: {
+        "alphabet": ["self"], "productions": ["self"], "symbols": ["self"], "__eq__": ["self", "other"],
     },
 }
 
