@@ -131,6 +131,21 @@ def place_behind(product, other, start):
     return place
 
 
+def latest_start(product, other):
+    """Return the greatest index from which on all words of a product fit into the other one, or None."""
+    start = end = len(other)
+    for factor in reversed(product):
+        # The latest factor that covers this one leaves the most room for what stands in front.
+        while end > 0 and not covers(other[end - 1], factor):
+            end -= 1
+        if end == 0:
+            return None
+        start = end - 1
+        if other[start][0] == "opt":
+            end = start
+    return start
+
+
 def is_included(product, other):
     """Tell whether the language of a product is a subset of that of the other one."""
     return place_behind(product, other, 0) is not None

@@ -3,8 +3,11 @@
 import itertools
 import random
 
+from downwords.bounds import closure_table
+from downwords.errors import TooMany
 from downwords.grammars import Grammar
 from downwords.languages import Language
+from downwords.products import is_included
 from support import joined
 
 
@@ -202,6 +205,27 @@ def slow_closures(grammar, limit=50):
             numbers[symbol] = max(worst, len(found))
             sides[symbol] = own_sides
     return closures, numbers, sides
+
+
+def slow_is_upper_bound(grammar, table):
+    """Put together all products, one of each entry, and look for each of them."""
+    for symbol, items in grammar.productions():
+        larger = table[symbol].products()
+        parts = [table[item].products() if item.isupper() else [(("opt", item),)] for item in items]
+        for row in itertools.product(*parts):
+            product = sum(row, ())
+            if not any(is_included(product, other) for other in larger):
+                return False
+    return True
+
+
+def table_or_none(grammar):
+    """The table of the closures, or None if one of them is too large."""
+    try:
+        return closure_table(grammar)
+    except TooMany as error:
+        assert error.limit == 50
+        return None
 
 
 def renamed(grammar, names):

@@ -7,6 +7,7 @@ from downwords.errors import TooLarge
 from downwords.grammars import Grammar
 from downwords.languages import Language
 from downwords.products import format_product, is_included, is_product, reduce_product
+from downwords.workbench import Workbench
 
 
 def nested(depth, wrap):
@@ -31,6 +32,7 @@ NOT_TEXTS = [
     {}, {"a": "b"}, {"a": 1, "b": 2}, {0: "a"}, TooLarge(12),
     Language("ab", []), Language("a", [(("opt", "a"),)]), [Language("ab", [()])], (Language("ab", [()]),),
     Grammar("ab", []), [Grammar("ab", [("S", "a")])], (Grammar("ab", [("S", "a")]),), [("S", "a")], ("S", "a"),
+    Workbench("ab"), [Workbench("abc")], (Workbench("a"),), {"a": Workbench("ab")},
 ] + DEEP
 
 # None of these texts is an alphabet, a word over "abc" or a written form.

@@ -8,7 +8,8 @@ import re
 import unittest
 
 from downwords import (
-    analysis, closures, counting, excluded, expressions, grammars, languages, operations, products, words,
+    analysis, bounds, certificates, closures, counting, excluded, expressions, grammars, languages, notation, operations,
+    products, words, workbench,
 )
 
 PACKAGE = pathlib.Path(__file__).resolve().parent.parent / "downwords"
@@ -75,6 +76,23 @@ ARGUMENTS = {
         "closure": ["grammar", "symbol"],
         "side_letters": ["grammar", "symbol"],
     },
+    bounds: {
+        "closure_table": ["grammar"],
+        "is_upper_bound": ["grammar", "thing"],
+    },
+    certificates: {
+        "certificate": ["grammar", "symbol", "word"],
+        "is_certificate": ["grammar", "symbol", "word", "thing"],
+    },
+    workbench: {
+        "Workbench": ["alphabet"],
+    },
+    notation: {
+        "format_grammar": ["grammar"],
+        "parse_grammar": ["text"],
+        "format_workbench": ["workbench"],
+        "parse_workbench": ["text"],
+    },
 }
 
 METHODS = {
@@ -85,6 +103,16 @@ METHODS = {
     grammars.Grammar: {
         "alphabet": ["self"], "productions": ["self"], "symbols": ["self"], "__eq__": ["self", "other"],
     },
+    workbench.Workbench: {
+        "alphabet": ["self"], "define": ["self", "name", "definition"], "remove": ["self", "name"], "undo": ["self", "count"],
+        "redo": ["self", "count"], "value": ["self", "name"], "names": ["self", "missing"], "definition": ["self", "name"],
+        "dependents": ["self", "name", "direct"], "__eq__": ["self", "other"],
+    },
+}
+
+# The parameters that must be passed by name, with their default values.
+BY_NAME = {
+    "undo": {"count": 1}, "redo": {"count": 1}, "names": {"missing": False}, "dependents": {"direct": False},
 }
 
 ALLOWED_BUILTINS = """
@@ -113,14 +141,20 @@ class TestInterface(unittest.TestCase):
         for module, functions in ARGUMENTS.items():
             for name, expected in functions.items():
                 function = getattr(module, name)
-                self.assertEqual(list(inspect.signature(function).parameters), expected, name)
+                parameters = inspect.signature(function).parameters
+                self.assertEqual(list(parameters), expected, name)
+                for part in parameters.values():
+                    self.assertEqual((part.kind, part.default), (part.POSITIONAL_OR_KEYWORD, part.empty), name)
                 self.assertEqual(function.__module__, module.__name__)
 
     def test_methods_stand_in_the_class_itself(self):
         for kind, methods in METHODS.items():
             for name, expected in methods.items():
                 self.assertIn(name, vars(kind))
-                self.assertEqual(list(inspect.signature(vars(kind)[name]).parameters), expected, name)
+                parameters = inspect.signature(vars(kind)[name]).parameters
+                self.assertEqual(list(parameters), expected, name)
+                by_name = {part.name: part.default for part in parameters.values() if part.kind == part.KEYWORD_ONLY}
+                self.assertEqual(by_name, BY_NAME.get(name, {}))
 
 
 class TestRules(unittest.TestCase):
