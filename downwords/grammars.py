@@ -67,5 +67,5 @@ class Grammar:
 
 def check_symbol(grammar, thing):
     """Raise UnknownSymbol if the object is not a symbol of the grammar."""
-    if not isinstance(thing, str) or thing not in grammar.symbols():
+    if thing not in grammar.symbols():
         raise UnknownSymbol(thing)

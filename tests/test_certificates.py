@@ -226,6 +226,17 @@ class TestChecker(unittest.TestCase):
             self.assertIs(is_certificate(self.grammar, "S", "ab", ("in", tree, ranks)), False, tree)
         self.assertTrue(is_certificate(self.grammar, "S", "ab", ("in", (0, ("a", None, "b")), ranks)))
 
+    def test_the_symbol_itself_is_not_deleted(self):
+        for symbol, ranks in [("S", {"S": 1}), ("S", {"S": 3, "T": 2, "U": 1}), ("U", {"U": 1})]:
+            self.assertIs(is_certificate(self.grammar, symbol, "", ("in", None, ranks)), False)
+            self.assertEqual(certificate(self.grammar, symbol, "")[0], "in")
+
+    def test_indexes_from_the_end(self):
+        grammar = Grammar("ab", [("S", "a"), ("S", "b")])
+        for index in range(-4, 5):
+            self.assertIs(is_certificate(grammar, "S", "a", ("in", (index, ("a",)), {})), index == 0)
+            self.assertIs(is_certificate(grammar, "S", "b", ("in", (index, ("b",)), {})), index == 1)
+
     def test_ranks(self):
         tree = (0, ("a", None, "b"))
         right = [{"T": 2, "U": 1}, {"U": 0, "T": 1}, {"T": -5, "U": -10 ** 20}, {"T": 2, "U": 1, "S": 0},
